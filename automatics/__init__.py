@@ -1,0 +1,1 @@
+"""Automatics: statements about numbers and their digits."""

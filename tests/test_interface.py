@@ -1,0 +1,62 @@
+"""The interface: names, arguments, and the file in which each stands."""
+
+import ast
+import importlib
+import inspect
+import os
+import unittest
+
+PLACE = os.path.dirname(os.path.dirname(os.path.abspath(__file__)))
+
+INTERFACE = {
+    "automaton": [
+        "Automaton.__init__(self, base, tracks, rows, accepting)", "Automaton.after(self, state, letter)",
+        "Automaton.reach(self, word)", "Automaton.accepts(self, word)", "letters(base, tracks)",
+        "letter_number(base, letter)", "same(first, second)"],
+    "least": [
+        "least(automaton)", "folding(automaton)", "alike(first, second)", "parting_word(first, second)",
+        "first_word(automaton)"],
+    "combine": [
+        "product(first, second, way)", "opposite(automaton)", "both(first, second)", "either(first, second)",
+        "nothing(base, tracks)", "everything(base, tracks)", "placed(automaton, tracks, places)"],
+}
+
+
+def defined(module):
+    """The functions of a file, and the methods of its classes, with their arguments."""
+    with open(os.path.join(PLACE, "automatics", module + ".py"), encoding="utf-8") as stream:
+        tree = ast.parse(stream.read())
+    found = []
+    for node in tree.body:
+        if isinstance(node, ast.FunctionDef):
+            found.append(f"{node.name}({ast.unparse(node.args)})")
+        if isinstance(node, ast.ClassDef):
+            found.extend(
+                f"{node.name}.{part.name}({ast.unparse(part.args)})" for part in node.body
+                if isinstance(part, ast.FunctionDef))
+    return found
+
+
+class Interface(unittest.TestCase):
+
+    def test_each_stands_in_its_file(self):
+        for module, calls in INTERFACE.items():
+            found = defined(module)
+            for call in calls:
+                with self.subTest(module=module, call=call):
+                    self.assertIn(call, found)
+
+    def test_each_is_imported_from_its_module(self):
+        for module, calls in INTERFACE.items():
+            loaded = importlib.import_module("automatics." + module)
+            for call in calls:
+                name = call.partition("(")[0].partition(".")[0]
+                self.assertEqual(inspect.getmodule(getattr(loaded, name)), loaded)
+
+    def test_package_itself_holds_nothing(self):
+        with open(os.path.join(PLACE, "automatics", "__init__.py"), encoding="utf-8") as stream:
+            self.assertEqual(len(ast.parse(stream.read()).body), 1)
+
+
+if __name__ == "__main__":
+    unittest.main()
