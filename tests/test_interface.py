@@ -19,6 +19,14 @@ INTERFACE = {
     "combine": [
         "product(first, second, way)", "opposite(automaton)", "both(first, second)", "either(first, second)",
         "nothing(base, tracks)", "everything(base, tracks)", "placed(automaton, tracks, places)"],
+    "automatontext": ["automaton_text(automaton)", "automaton_of(text)"],
+    "digits": [
+        "digits_of(number, base)", "word_of(numbers, base)", "numbers_of(word, tracks, base)",
+        "number_of(digits, base)", "takes(automaton, numbers)"],
+    "steady": ["is_steady(automaton)", "steadied(automaton)"],
+    "basic": [
+        "linear(base, factors, constant, sign)", "equal(base)", "less(base)", "total(base)", "constant(base, c)",
+        "multiple(base, modulus, rest)", "power(base)", "top_power(base)"],
 }
 
 

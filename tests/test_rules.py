@@ -48,6 +48,8 @@ BROKEN = [
     ("L15", {"a.py": "NAME = 1\nNAME = 2\n"}),
     ("L15", {"a.py": "def f(hash):\n    return hash\n"}),
     ("L15", {"a.py": "def f():\n    next = 1\n    return next\n"}),
+    ("L15", {"a.py": "from math import gcd\n\n\ndef f(gcd):\n    return gcd\n"}),
+    ("L15", {"a.py": "class Box:\n    pass\n\n\ndef f():\n    Box = 1\n    return Box\n"}),
     ("L16", {"a.py": "import math\n"}),
     ("L16", {"a.py": "from automatics.b import gcd\n", "b.py": "from math import gcd\n"}),
     ("L16", {"a.py": "from automatics.gone import name\n"}),

@@ -309,6 +309,8 @@ def is_method(source, node):
 def check_names(source):
     """L8, L12, L15, L17: how things are called."""
     found = []
+    taken = {name for name, _ in imported(source)}
+    taken.update(node.name for node in source.tree.body if isinstance(node, ast.ClassDef))
     for name, line in used_names(source):
         if name in NEVER or FRAME.match(name):
             found.append(("L17", line, f"the name {name}"))
@@ -324,6 +326,9 @@ def check_names(source):
             found.append(("L15", node.lineno, f"{name} is a builtin's name"))
         if name.startswith("__") and not (method and name.strip("_") in DUNDER_METHODS):
             found.append(("L8", node.lineno, f"the name {name}"))
+        nested = isinstance(node, ast.FunctionDef) and source.parents[node] is not source.tree and not method
+        if (nested or isinstance(node, (ast.arg, ast.Name))) and name in taken:
+            found.append(("L15", node.lineno, f"{name} is a class or an import of this file"))
     for node in ast.walk(source.tree):
         if isinstance(node, ast.Name) and node.id == "_" and isinstance(node.ctx, ast.Load):
             found.append(("L12", node.lineno, "_ is read"))
