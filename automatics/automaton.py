@@ -1,10 +1,8 @@
 """Automata that read words, and the letters that these consist of."""
 
 from automatics.errors import BadAutomaton, BadWord
-from automatics.integers import in_bounds
+from automatics.integers import in_bounds, is_base
 
-LEAST_BASE = 2
-GREATEST_BASE = 4
 MOST_TRACKS = 5
 MOST_STATES = 5000
 
@@ -83,7 +81,7 @@ def accepting_flags(automaton):
 
 def check_base(base):
     """Raises BadAutomaton if a value is no base."""
-    if not in_bounds(base, LEAST_BASE, GREATEST_BASE):
+    if not is_base(base):
         raise BadAutomaton("the base is not an integer from 2 to 4")
 
 

@@ -38,11 +38,11 @@ class Partition:
         self.members.append({state: True for state in part})
 
 
-def alike_classes(rows, accepting):
-    """Returns a list with a class for each state; alike states have the same one."""
+def alike_classes(rows, marks):
+    """Returns a list with a class for each state; alike states, from which words lead to equal marks, have the same."""
     sources = _sources(rows)
     partition = Partition(len(rows))
-    pending = partition.divide(0, [list(accepting)] if accepting else [])
+    pending = partition.divide(0, _marked(marks))
     # Once every state has a class of its own, nothing is left to part.
     while pending and len(partition.members) < len(rows):
         hits = _hits(pending.pop(), sources)
@@ -50,6 +50,14 @@ def alike_classes(rows, accepting):
         for old in list(groups):
             pending.extend(partition.divide(old, list(groups[old].values())))
     return partition.class_of
+
+
+def _marked(marks):
+    """Returns for each mark the list of its states."""
+    parts = {}
+    for state, mark in enumerate(marks):
+        parts.setdefault(mark, []).append(state)
+    return list(parts.values())
 
 
 def _sources(rows):

@@ -4,6 +4,7 @@ import itertools
 import random
 
 from automatics.automaton import Automaton
+from automatics.sequence import Sequence
 
 # Values of every kind that are no integers from 0 to 10.
 NO_INTEGERS = (None, True, False, 1.0, 0.5, "1", "", b"1", (), (1,), [], [0], {}, {1: 1}, {1}, object(), len, -1, 10 ** 30)
@@ -118,3 +119,75 @@ def ring(size, base=2, tracks=1, accepting=(0,)):
     width = base ** tracks
     rows = [[(state + 1) % size] * width for state in range(size)]
     return Automaton(base, tracks, rows, list(accepting))
+
+
+def digits_up(number, base):
+    """The digits of a number, the highest first, found by division alone."""
+    found = []
+    while number:
+        number, digit = divmod(number, base)
+        found.append(digit)
+    return found[::-1]
+
+
+def member(sequence, number):
+    """The member of a sequence with a number, found by its rows alone."""
+    state = 0
+    for digit in digits_up(number, sequence.base):
+        state = sequence.rows[state][digit]
+    return sequence.outputs[state]
+
+
+def random_sequence(seed, base, size, outputs=3):
+    """A sequence of random rows in which the digit 0 leads from state 0 to itself."""
+    source = random.Random(seed)
+    rows = [[source.randrange(size) for _ in range(base)] for _ in range(size)]
+    rows[0][0] = 0
+    return Sequence(base, rows, [source.randrange(outputs) for _ in range(size)])
+
+
+def doubled_sequence(sequence, seed):
+    """A sequence with the same members, in which each state stands twice and one state is not reached."""
+    source = random.Random(seed)
+    size = sequence.size()
+    rows = [[target + size * source.randrange(2) for target in row] for row in sequence.rows * 2]
+    rows.append([source.randrange(2 * size + 1) for _ in rows[0]])
+    return Sequence(sequence.base, rows, sequence.outputs * 2 + (7,))
+
+
+def small_sequences():
+    """Sequences of all bases and several sizes, some of them with states that are alike or not reached."""
+    found = [random_sequence(seed, base, 1 + seed % 6) for base in (2, 3, 4) for seed in range(12)]
+    return found + [doubled_sequence(sequence, seed) for seed, sequence in enumerate(found)]
+
+
+def sequence_parts(sequence):
+    """What tells a sequence with its states."""
+    return sequence.base, sequence.rows, sequence.outputs
+
+
+def plain_least_parts(sequence):
+    """The parts of the least sequence, found by parting all states again and again."""
+    classes = list(sequence.outputs)
+    while True:
+        keys = [(mark, tuple(classes[target] for target in row)) for mark, row in zip(classes, sequence.rows)]
+        numbers = {key: at for at, key in enumerate(dict.fromkeys(keys))}
+        finer = [numbers[key] for key in keys]
+        if len(set(finer)) == len(set(classes)):
+            break
+        classes = finer
+    order = [0]
+    numbers = {finer[0]: 0}
+    for state in order:
+        for target in sequence.rows[state]:
+            if finer[target] not in numbers:
+                numbers[finer[target]] = len(order)
+                order.append(target)
+    rows = tuple(tuple(numbers[finer[target]] for target in sequence.rows[state]) for state in order)
+    return sequence.base, rows, tuple(sequence.outputs[state] for state in order)
+
+
+def great_numbers(seed, count=5):
+    """Numbers of up to some thousand digits."""
+    source = random.Random(seed)
+    return [10 ** 9, 4 ** 50, 3 ** 40 - 1] + [source.randrange(10 ** (700 * at)) for at in range(1, count + 1)]

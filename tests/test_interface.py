@@ -27,6 +27,26 @@ INTERFACE = {
     "basic": [
         "linear(base, factors, constant, sign)", "equal(base)", "less(base)", "total(base)", "constant(base, c)",
         "multiple(base, modulus, rest)", "power(base)", "top_power(base)"],
+    "sequence": [
+        "Sequence.__init__(self, base, rows, outputs)", "Sequence.size(self)", "Sequence.state(self, n)",
+        "Sequence.at(self, n)", "Sequence.first(self, count)", "least_sequence(sequence)", "same(first, second)",
+        "differing(first, second)"],
+    "made": [
+        "mapped(sequence, table)", "paired(first, second, table)", "shifted(sequence, count)",
+        "thinned(sequence, step, first)", "kernel(sequence)"],
+    "morphism": [
+        "Morphism.__init__(self, base, images, coding)", "Morphism.word(self, times)", "morphic(morphism)",
+        "morphism_of(sequence)"],
+    "knownseq": [
+        "digit_sum(base, modulus)", "thue_morse()", "block_count(base, block, modulus)", "rudin_shapiro()",
+        "paper_folding()", "powers(base)", "residues(base, modulus)", "repeating(base, front, loop)"],
+    "sequencetext": ["sequence_text(sequence)", "sequence_of(text)"],
+    "formula": [
+        "is_term(value)", "is_formula(value)", "depth(formula)", "free(formula)", "names(formula)",
+        "term(variables, constant)", "implies(p, q)", "both_ways(p, q)", "renamed(formula, old, new)",
+        "put(formula, variable, constant)"],
+    "plain": ["value_of(term, values)", "holds_below(formula, values, sequences, bound)"],
+    "formulatext": ["formula_text(formula)", "formula_of(text)"],
 }
 
 
