@@ -1,7 +1,7 @@
 """Automata that read words, and the letters that these consist of."""
 
 from automatics.errors import BadAutomaton, BadWord
-from automatics.integers import in_bounds, is_base
+from automatics.integers import all_in_bounds, in_bounds, is_base
 
 MOST_TRACKS = 5
 MOST_STATES = 5000
@@ -65,6 +65,11 @@ def letter_number(base, letter):
     return number
 
 
+def picked_letters(base, tracks, places):
+    """Returns for each letter the number of the letter that consists of its digits at the places."""
+    return [letter_number(base, [letter[place] for place in places]) for letter in letters(base, tracks)]
+
+
 def same(first, second):
     """Returns whether two automata are alike in all their parts."""
     shapes_agree = first.base == second.base and first.tracks == second.tracks
@@ -100,7 +105,7 @@ def check_letters_agree(first, second):
 def _is_letter(value, base, tracks):
     if not isinstance(value, tuple) or len(value) != tracks:
         return False
-    return all([in_bounds(digit, 0, base - 1) for digit in value])
+    return all_in_bounds(value, 0, base - 1)
 
 
 def _copied_rows(rows, width):
@@ -110,7 +115,7 @@ def _copied_rows(rows, width):
     for row in rows:
         if not isinstance(row, (list, tuple)) or len(row) != width:
             raise BadAutomaton("a row does not have a state for each letter")
-        if not all([in_bounds(state, 0, len(rows) - 1) for state in row]):
+        if not all_in_bounds(row, 0, len(rows) - 1):
             raise BadAutomaton("a row leads to something that is no state")
         copied.append(tuple(row))
     return tuple(copied)
@@ -119,7 +124,7 @@ def _copied_rows(rows, width):
 def _copied_accepting(accepting, size):
     if not isinstance(accepting, (list, tuple)):
         raise BadAutomaton("the accepting states are not in a list")
-    if not all([in_bounds(state, 0, size - 1) for state in accepting]):
+    if not all_in_bounds(accepting, 0, size - 1):
         raise BadAutomaton("an accepting state is no state")
     if len(set(accepting)) != len(accepting):
         raise BadAutomaton("an accepting state stands twice")

@@ -6,7 +6,7 @@ from automatics.automaton import (
 from automatics.digits import digits_of
 from automatics.errors import BadAutomaton
 from automatics.explore import explored
-from automatics.integers import in_bounds
+from automatics.integers import all_in_bounds, in_bounds
 from automatics.least import least
 
 GREATEST_FACTOR = 20
@@ -19,17 +19,26 @@ def linear(base, factors, constant, sign):
     """Returns the automaton of the rows whose sum of factor times number, plus the constant, is 0 or less than 0."""
     check_base(base)
     _check_linear(factors, constant, sign)
+    rows, read, _ = weighing(base, factors, constant)
+    if sign == "=":
+        accepting = [at for at, value in enumerate(read) if value + constant == 0]
+    else:
+        accepting = [at for at, value in enumerate(read) if value + constant < 0]
+    return least(Automaton(base, len(factors), rows, accepting))
+
+
+def weighing(base, factors, constant):
+    """Returns (rows, values, bounds): for each state the sum of factor times the number read so far.
+
+    Beyond the bounds a value can never come back: there it is kept as one of
+    the pair (below, above), which lie just beyond.
+    """
     sums = [_weighed(factors, letter) for letter in letters(base, len(factors))]
-    # Beyond these bounds a value can never come back: it is kept one beyond.
     above = max(-sum([factor for factor in factors if factor < 0]), -constant) + 1
     below = min(-sum([factor for factor in factors if factor > 0]), -constant) - 1
-    rows, found = explored(
-        0, lambda read: [max(below, min(above, base * read + weight)) for weight in sums], MOST_STATES)
-    if sign == "=":
-        accepting = [at for at, read in enumerate(found) if read + constant == 0]
-    else:
-        accepting = [at for at, read in enumerate(found) if read + constant < 0]
-    return least(Automaton(base, len(factors), rows, accepting))
+    rows, values = explored(
+        0, lambda value: [max(below, min(above, base * value + weight)) for weight in sums], MOST_STATES)
+    return rows, values, (below, above)
 
 
 def equal(base):
@@ -99,7 +108,7 @@ def top_power(base):
 def _check_linear(factors, shift, sign):
     if not isinstance(factors, tuple) or len(factors) > MOST_TRACKS:
         raise BadAutomaton("the factors are not a tuple of at most 5")
-    if not all([in_bounds(factor, -GREATEST_FACTOR, GREATEST_FACTOR) for factor in factors]):
+    if not all_in_bounds(factors, -GREATEST_FACTOR, GREATEST_FACTOR):
         raise BadAutomaton("a factor is not an integer from -20 to 20")
     if not in_bounds(shift, -GREATEST_SHIFT, GREATEST_SHIFT):
         raise BadAutomaton("the constant is not an integer from -1000 to 1000")

@@ -2,11 +2,11 @@
 
 from automatics.automaton import (
     Automaton, MOST_STATES, accepting_flags, check_base, check_letters_agree, check_tracks, letter_count,
-    letter_number, letters,
+    picked_letters,
 )
 from automatics.errors import BadAutomaton
 from automatics.explore import explored
-from automatics.integers import in_bounds
+from automatics.integers import all_in_bounds
 from automatics.least import least
 
 
@@ -55,9 +55,7 @@ def placed(automaton, tracks, places):
     """Returns the least automaton that reads the tracks of another one at the given places."""
     check_tracks(tracks)
     _check_places(places, automaton.tracks, tracks)
-    picks = [
-        letter_number(automaton.base, [letter[place] for place in places])
-        for letter in letters(automaton.base, tracks)]
+    picks = picked_letters(automaton.base, tracks, places)
     rows = [[row[pick] for pick in picks] for row in automaton.rows]
     return least(Automaton(automaton.base, tracks, rows, automaton.accepting))
 
@@ -71,5 +69,5 @@ def _single(base, tracks, accepting):
 def _check_places(places, many, tracks):
     if not isinstance(places, tuple) or len(places) != many:
         raise BadAutomaton("the places are not a tuple with one for each track of the automaton")
-    if not all([in_bounds(place, 0, tracks - 1) for place in places]):
+    if not all_in_bounds(places, 0, tracks - 1):
         raise BadAutomaton("a place is not the number of a track")

@@ -7,6 +7,7 @@ from automatics.tables import is_output
 GREATEST_CONSTANT = 1000
 MOST_VARIABLES = 4
 DEEPEST = 12
+LETTERS = "abcdefghijklmnopqrstuvwxyz"
 QUANTIFIERS = ("some", "all")
 
 # What stands behind the word of each kind of formula.
@@ -33,12 +34,29 @@ def is_term(value):
         return False
     if not isinstance(variables, tuple) or len(variables) > MOST_VARIABLES:
         return False
-    return all([_is_variable(item) for item in variables]) and list(variables) == sorted(variables)
+    return all([is_variable(item) for item in variables]) and list(variables) == sorted(variables)
 
 
 def is_formula(value):
     """Returns whether a value of any kind is a formula that is nested at most 12 deep."""
-    return _is_nested(value, DEEPEST)
+    return is_nested(value, DEEPEST)
+
+
+def is_nested(value, deepest):
+    """Returns whether a value of any kind is a formula that is nested at most so deep."""
+    # A list of what is left to look at does with any depth, which calls would not.
+    pending = [(value, deepest)]
+    while len(pending) > 0:
+        inner, left = pending.pop()
+        if not _has_shape(inner, left):
+            return False
+        pending.extend([(part, left - 1) for part in parts(inner, "formula")])
+    return True
+
+
+def is_variable(value):
+    """Returns whether a value of any kind is a variable."""
+    return is_letter(value, "a", "z")
 
 
 def parts(formula, kind):
@@ -106,17 +124,25 @@ def put(formula, variable, constant):
         lambda part: put(part, variable, constant))
 
 
+def balance(comparison):
+    """Returns (variables, factors, constant) of the first term of a comparison less the second one."""
+    first, second = comparison[1:]
+    factors = {}
+    for variable in first[1]:
+        factors[variable] = factors.get(variable, 0) + 1
+    for variable in second[1]:
+        factors[variable] = factors.get(variable, 0) - 1
+    variables = sorted(factors)
+    return variables, tuple([factors[variable] for variable in variables]), first[2] - second[2]
+
+
 def is_letter(value, first, last):
     """Returns whether a value of any kind is one letter from the first to the last one."""
     return isinstance(value, str) and len(value) == 1 and first <= value <= last
 
 
-def _is_variable(value):
-    return is_letter(value, "a", "z")
-
-
-def _is_nested(value, deepest):
-    """Returns whether a value is a formula that is nested at most so deep."""
+def _has_shape(value, deepest):
+    """Returns whether a value is a formula, but for the formulas within it, of which there are none at the depth 0."""
     if not isinstance(value, tuple) or len(value) == 0:
         return False
     if not isinstance(value[0], str) or value[0] not in SHAPES:
@@ -124,19 +150,17 @@ def _is_nested(value, deepest):
     shape = SHAPES[value[0]]
     if len(value) != len(shape) + 1 or "formula" in shape and deepest == 0:
         return False
-    return all([_is_item(item, kind, deepest - 1) for item, kind in zip(value[1:], shape)])
+    return all([_is_item(item, kind) for item, kind in zip(value[1:], shape)])
 
 
-def _is_item(value, kind, deepest):
+def _is_item(value, kind):
     if kind == "term":
         return is_term(value)
     if kind == "name":
         return is_letter(value, "A", "Z")
     if kind == "variable":
-        return _is_variable(value)
-    if kind == "output":
-        return is_output(value)
-    return _is_nested(value, deepest)
+        return is_variable(value)
+    return kind == "formula" or is_output(value)
 
 
 def _rebuilt(formula, on_term, on_formula):

@@ -1,9 +1,8 @@
 """Texts of formulas."""
 
 from automatics.errors import BadFormula
-from automatics.formula import DEEPEST, GREATEST_CONSTANT, MOST_VARIABLES, term
+from automatics.formula import DEEPEST, GREATEST_CONSTANT, LETTERS, MOST_VARIABLES, term
 
-LETTERS = "abcdefghijklmnopqrstuvwxyz"
 CAPITALS = "ABCDEFGHIJKLMNOPQRSTUVWXYZ"
 DIGITS = "0123456789"
 SIGNS = {"and": "&", "or": "|"}

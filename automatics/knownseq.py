@@ -2,7 +2,7 @@
 
 from automatics.errors import BadSequence
 from automatics.explore import explored
-from automatics.integers import in_bounds, is_base
+from automatics.integers import all_in_bounds, in_bounds, is_base
 from automatics.made import shifted
 from automatics.sequence import MOST_STATES, Sequence, least_sequence
 from automatics.tables import are_outputs
@@ -115,7 +115,7 @@ def _check_modulus(modulus):
 def _check_block(base, block):
     if not isinstance(block, tuple) or not 1 <= len(block) <= LONGEST_BLOCK:
         raise BadSequence("the block is not a tuple of 1 to 4 digits")
-    if not all([in_bounds(digit, 0, base - 1) for digit in block]):
+    if not all_in_bounds(block, 0, base - 1):
         raise BadSequence("an item of the block is no digit")
     if not any(block):
         raise BadSequence("the block consists of zeros")

@@ -7,7 +7,11 @@ from automatics.parting import parting_path
 
 def least(automaton):
     """Returns the automaton with the same language and the fewest states."""
-    fold = folding(automaton)
+    return folded(automaton, folding(automaton))
+
+
+def folded(automaton, fold):
+    """Returns the least automaton, to which the states of an automaton are folded so."""
     rows = [[fold[target] for target in automaton.rows[state]] for state in first_folded(fold)]
     accepting = sorted({fold[state] for state in automaton.accepting if fold[state] is not None})
     return Automaton(automaton.base, automaton.tracks, rows, accepting)

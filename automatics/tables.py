@@ -1,6 +1,6 @@
 """The lists from which sequences and morphisms are made."""
 
-from automatics.integers import in_bounds
+from automatics.integers import all_in_bounds, in_bounds
 
 GREATEST_OUTPUT = 9
 
@@ -21,7 +21,7 @@ def are_outputs(value, count):
     """Returns whether a value holds so many outputs."""
     if not isinstance(value, (list, tuple)) or len(value) != count:
         return False
-    return all([is_output(item) for item in value])
+    return all_in_bounds(value, 0, GREATEST_OUTPUT)
 
 
 def copied_rows(rows):
@@ -32,4 +32,4 @@ def copied_rows(rows):
 def _is_row(value, width, count):
     if not isinstance(value, (list, tuple)) or len(value) != width:
         return False
-    return all([in_bounds(item, 0, count - 1) for item in value])
+    return all_in_bounds(value, 0, count - 1)

@@ -43,6 +43,14 @@ def random_automaton(seed, base, tracks, size):
     return Automaton(base, tracks, rows, accepting)
 
 
+def made_steady(seed, base, tracks, size):
+    """A steady automaton of random rows: zeros lead from state 0 to itself."""
+    drawn = random_automaton(seed, base, tracks, size)
+    rows = [list(row) for row in drawn.rows]
+    rows[0][0] = 0
+    return Automaton(base, tracks, rows, drawn.accepting)
+
+
 def small_automata():
     """Automata of several bases, numbers of tracks and sizes."""
     shapes = [(2, 0), (2, 1), (2, 2), (3, 0), (3, 1), (3, 2), (4, 1), (4, 2)]
@@ -144,6 +152,11 @@ def random_sequence(seed, base, size, outputs=3):
     rows = [[source.randrange(size) for _ in range(base)] for _ in range(size)]
     rows[0][0] = 0
     return Sequence(base, rows, [source.randrange(outputs) for _ in range(size)])
+
+
+def residue_rows(base, modulus):
+    """The rows of an automaton whose states are the residues by a modulus."""
+    return [[(base * state + digit) % modulus for digit in range(base)] for state in range(modulus)]
 
 
 def doubled_sequence(sequence, seed):

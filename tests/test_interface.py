@@ -47,6 +47,25 @@ INTERFACE = {
         "put(formula, variable, constant)"],
     "plain": ["value_of(term, values)", "holds_below(formula, values, sequences, bound)"],
     "formulatext": ["formula_text(formula)", "formula_of(text)"],
+    "project": ["looked(sequence, output)", "looked_both(first, second)", "left_out(automaton, track)"],
+    "compiling": ["compiled(formula, base, sequences)", "spelled(formula)"],
+    "log": ["log_of(formula, base, sequences)", "told(log, base)", "sizes(log)"],
+    "check": ["fault(log, formula, base, sequences)"],
+    "solve": [
+        "decide(formula, base, sequences)", "is_finite(automaton)", "row_at(automaton, index)",
+        "index_of(automaton, row)", "count_within(automaton, length)", "rows_within(automaton, length)",
+        "count_all(automaton)"],
+    "linear": [
+        "Linear.__init__(self, base, first, matrices, last)", "Linear.size(self)", "Linear.value(self, x)",
+        "Linear.values(self, count)", "counting(automaton, track)", "added(first, second)", "scaled(linear, factor)",
+        "summed(linear)", "same_values(first, second)", "parting_number(first, second)"],
+    "about": [
+        "equal_blocks(name, i, j, n)", "square(name, i, p)", "mirrored(name, i, n)", "first_place(name, i, n)",
+        "comes_again(name, i, n)", "rare_after(name, i, n, p)", "periodic_from(name, i, p)", "is_periodic(name)",
+        "is_recurrent(name)", "has_square(name)", "has_overlap(name)"],
+    "whole": [
+        "likeness(first, second, base, sequences)", "block_numbers(sequence)", "square_lengths(sequence)",
+        "mirror_lengths(sequence)", "places(sequence, block)", "least_period(sequence)"],
 }
 
 
