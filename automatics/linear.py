@@ -44,10 +44,12 @@ class Linear:
 
     def values(self, count):
         """Returns the list of the values for 0 to count - 1."""
+        # The last digit of each number is put to the column, so only the rows of shorter numbers are needed.
         rows = [self.first]
-        for x in range(1, count):
+        for x in range(1, (count - 1) // self.base + 1):
             rows.append(self.behind(rows[x // self.base], x % self.base))
-        return [self.ended(row) for row in rows[:count]]
+        columns = [[_product(row, self.last) for row in matrix] for matrix in self.matrices]
+        return [_product(rows[x // self.base], columns[x % self.base]) for x in range(count)]
 
     def behind(self, row, digit):
         """Returns the product of a row and the matrix of a digit."""
@@ -60,7 +62,7 @@ class Linear:
 
     def ended(self, row):
         """Returns the product of a row and the last column."""
-        return sum([number * factor for number, factor in zip(row, self.last)])
+        return _product(row, self.last)
 
 
 def counting(automaton, track):
@@ -154,6 +156,10 @@ def _is_matrix(value, size):
     if not isinstance(value, tuple) or len(value) != size:
         return False
     return all([_are_integers(row, size) for row in value])
+
+
+def _product(row, column):
+    return sum([number * factor for number, factor in zip(row, column)])
 
 
 def _links(row):

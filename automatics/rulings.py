@@ -213,7 +213,7 @@ def _sets_lead(entry, part, groups):
     masks = [mask_of(states) for states in entry.shown]
     if masks[0] != _reached(part.rows, groups[0]):
         return False
-    columns = [[mask_of([row[number] for number in group]) for row in part.rows] for group in groups]
+    columns = [[mask_of([targets[number] for number in group]) for targets in part.rows] for group in groups]
     for row, states in zip(entry.rows, entry.shown):
         for target, column in zip(row, columns):
             union = 0

@@ -225,6 +225,13 @@ class Anything(unittest.TestCase):
                     self.assertEqual(fault(changed(log, at, other), formula, 2, WORLD), at, (entry, other))
 
     def test_odd_values(self):
+        # For each rule an entry, and for "least" and "some" one with more states.
+        self.places = {}
+        for _, log in logs():
+            for at, entry in enumerate(log):
+                self.places.setdefault(entry[RULE], (log, at))
+                self.places.setdefault((entry[RULE], len(entry[ROWS]) > 2, len(entry[SHOWN]) > 0), (log, at))
+        self.assertGreater(len(self.places), 20)
         for value in list(ODD_VALUES) + DEEP_VALUES:
             self.check_places(value)
 
@@ -233,14 +240,13 @@ class Anything(unittest.TestCase):
                          -1 if not isinstance(value, tuple) else 0)
         self.assertEqual(fault((value,), ("true",), 2, WORLD), 0)
         self.assertEqual(fault((TRUE, value), ("true",), 2, WORLD), 1)
-        for _, log in logs()[:5]:
-            for at in (0, len(log) // 2, len(log) - 1):
-                for item in range(7):
-                    entry = changed(log[at], item, value)
-                    found = fault(changed(log, at, entry), ("true",), 2, WORLD)
-                    # Some values stand there anyway; then the log is as it was.
-                    expected = len(log) if log[-1][FORMULA] != ("true",) else None
-                    self.assertEqual(found, expected if repr(entry) == repr(log[at]) else at)
+        for log, at in self.places.values():
+            for item in range(7):
+                entry = changed(log[at], item, value)
+                found = fault(changed(log, at, entry), ("true",), 2, WORLD)
+                # Some values stand there anyway; then the log is as it was.
+                expected = len(log) if log[-1][FORMULA] != ("true",) else None
+                self.assertEqual(found, expected if repr(entry) == repr(log[at]) else at)
 
     def test_values_within_what_is_shown(self):
         for _, log in logs():

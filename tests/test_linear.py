@@ -135,6 +135,10 @@ class Wrong(unittest.TestCase):
         for value in NO_INTEGERS + (0, 1, 3, 4, 5, (2,)):
             self.check_wrong(0, value)
         self.assertEqual(Linear(*self.right).base, 2)
+        # As many matrices as such a base would have.
+        for base, count in ((2.0, 2), (True, 1), (1, 1), (5, 5), (0, 0), (False, 0), (6, 6)):
+            with self.assertRaises(BadLinear):
+                Linear(base, (0, 1), (((2, 0), (0, 1)),) * count, (1, 0))
 
     def test_rows_and_columns(self):
         for at in (1, 3):

@@ -2,6 +2,7 @@
 
 import unittest
 
+from automatics.automaton import letters
 from automatics.check import fault
 from automatics.formulatext import formula_of
 from automatics.knownseq import powers
@@ -398,6 +399,17 @@ class Some(Rule):
             self.check_wrong(*log[:-1], changed(entry, SHOWN, changed(entry[SHOWN], 0, reached)))
             reached = after
 
+    def test_another_first_set(self):
+        # All sets that follow on another one are right, but for the first one.
+        for text in ("some x (x = 9)", "some x (a = x + x)", "some x ((x < 3 & a < x))", "some b ((b < a & T[b] = @1))"):
+            log = self.some(text)
+            part = log[log[-1][PARTS][0]]
+            right = sets_entry(log[-1], part, log[-1][SHOWN][0])
+            self.check_right(*log[:-1], right)
+            for start in ((0,), tuple(range(len(part[ROWS]))), (len(part[ROWS]) - 1,)):
+                if start != log[-1][SHOWN][0]:
+                    self.check_wrong(*log[:-1], sets_entry(log[-1], part, start))
+
     def test_formula_and_variables(self):
         log = self.some("some x (a = x + x)")
         entry = log[-1]
@@ -516,6 +528,11 @@ class Least(Rule):
             self.assertEqual(told(chosen), None if parted else 1)
             self.assertEqual(told(chosen[::-1]), None if parted else 1)
         self.assertEqual(told(words[:1] * 9), 1)
+        # Words behind whose first letters stand words that are no tests.
+        one, zero = (1,), (0,)
+        self.assertIsNone(told(((), (one, zero), (one, one, zero), (zero, one, zero))))
+        self.assertIsNone(told(((), (one, zero, zero), (one, one, zero), (zero, one))))
+        self.assertEqual(told(((), (one, zero), (zero,) * 4 + (one, zero), (zero, one, zero))), 1)
 
     def test_formula_variables_and_parts(self):
         self.check_wrong(changed(self.entry, FORMULA, ("is", "U", A, 0)))
@@ -540,6 +557,25 @@ class Least(Rule):
                 self.assertEqual(fault(changed(log, len(log) - 1, wrong), formula, base, {}), len(log) - 1)
 
 
+def sets_entry(entry, part, start):
+    """An entry "some" whose sets follow on a given first one."""
+    place = part[VARIABLES].index(entry[FORMULA][1])
+    numbers = {letter: at for at, letter in enumerate(letters(2, len(part[VARIABLES])))}
+    found = [start]
+    rows = []
+    for states in found:
+        row = []
+        for letter in letters(2, len(entry[VARIABLES])):
+            wide = [numbers[letter[:place] + (digit,) + letter[place:]] for digit in (0, 1)]
+            target = tuple(sorted({part[ROWS][state][at] for state in states for at in wide}))
+            if target not in found:
+                found.append(target)
+            row.append(found.index(target))
+        rows.append(tuple(row))
+    accepting = tuple(at for at, states in enumerate(found) if set(states) & set(part[ACCEPTING]))
+    return changed(changed(changed(entry, ROWS, tuple(rows)), ACCEPTING, accepting), SHOWN, tuple(found))
+
+
 def number(word):
     """The number that a word of one track in the base 2 writes."""
     found = 0
@@ -554,6 +590,89 @@ def subsets(items):
     for item in items:
         found.extend([one + (item,) for one in found])
     return found
+
+
+class NotReached(Rule):
+    """Entries with one state more, to which no letter leads: what is shown for it must be right, too."""
+
+    def with_more(self, entry, row, told, accepts=False):
+        """An entry with one state more."""
+        accepting = entry[ACCEPTING] + ((len(entry[ROWS]),) if accepts else ())
+        return changed(changed(changed(entry, ROWS, entry[ROWS] + (row,)), ACCEPTING, accepting), SHOWN,
+                       entry[SHOWN] + (told,))
+
+    def test_values(self):
+        entry = comparison_entry(formula_of("a < b"), "ab", (1, -1), 0, -1, 1)
+        over, under = entry[SHOWN].index("over"), entry[SHOWN].index("under")
+        self.check_right(self.with_more(entry, (over,) * 4, 1000))
+        self.check_right(self.with_more(entry, (under,) * 4, -1000, True))
+        self.check_right(self.with_more(entry, (over,) * 4, "over"))
+        self.check_wrong(self.with_more(entry, (over,) * 4, 1000, True))
+        self.check_wrong(self.with_more(entry, (over,) * 4, -1000))
+        self.check_wrong(self.with_more(entry, (over,) * 4, "under", True))
+        for told in (None, True, "more", (), 5.0, (5,), []):
+            for accepts in (False, True):
+                self.check_wrong(self.with_more(entry, (over,) * 4, told, accepts))
+
+    def test_pairs(self):
+        one_sequence = log_of(formula_of("T[a] = T[b]"), 2, WORLD)[:1]
+        joined = log_of(formula_of("(T[a] = @1 & T[b] = @1)"), 2, WORLD)[:3]
+        for log in (one_sequence, joined):
+            *before, entry = log
+            row = entry[ROWS][0]
+            self.check_right(*before, self.with_more(entry, row, (0, 0), 0 in entry[ACCEPTING]))
+            for told in (None, (), (0,), (0, 0, 0), [0, 0], (2, 0), (0, 2), (-2, 0), (0, -2), (False, 0), (0, False), 0, "ab",
+                         (0, None), ((0,), 0)):
+                for accepts in (False, True):
+                    self.check_wrong(*before, self.with_more(entry, row, told, accepts))
+
+    def test_sets(self):
+        log = log_of(formula_of("some x (a = x + x)"), 2, WORLD)
+        at = [entry[RULE] for entry in log].index("some")
+        *before, entry = log[:at + 1]
+        size = len(log[entry[PARTS][0]][ROWS])
+        last = len(entry[ROWS])
+        self.check_right(*before, self.with_more(entry, entry[ROWS][0], entry[SHOWN][0], 0 in entry[ACCEPTING]))
+        # From an empty set, all letters lead to itself.
+        for told in ((), None, [], (0, 0), (size,), (-1,), (False,), 0, (None,), tuple(range(size))[::-1]):
+            for row in ((last, last), entry[ROWS][0]):
+                for accepts in (False, True):
+                    self.check_wrong(*before, self.with_more(entry, row, told, accepts))
+
+
+class Aliases(Rule):
+
+    def test_numbers_that_count_from_the_end(self):
+        for formula, log in logs():
+            for at, entry in enumerate(log):
+                size = len(entry[ROWS])
+                for state, row in enumerate(entry[ROWS]):
+                    for place, target in enumerate(row):
+                        for other in (target - size, size, size + target):
+                            rows = changed(entry[ROWS], state, changed(row, place, other))
+                            self.check_wrong(*log[:at], changed(entry, ROWS, rows))
+                for place, state in enumerate(entry[ACCEPTING]):
+                    for other in (state - size, size):
+                        self.check_wrong(*log[:at], changed(entry, ACCEPTING, changed(entry[ACCEPTING], place, other)))
+
+    def test_no_states(self):
+        for formula, log in logs():
+            for at, entry in enumerate(log):
+                none = changed(changed(entry, ROWS, ()), ACCEPTING, ())
+                for shown in ((), entry[SHOWN], ((), ())):
+                    self.check_wrong(*log[:at], changed(none, SHOWN, shown))
+
+    def test_six_variables(self):
+        formula = formula_of("a + b + c < d + e + f")
+        self.check_wrong(comparison_entry(formula, "abcdef", (1, 1, 1, -1, -1, -1), 0, -3, 3))
+        formula = formula_of("a + b + c < d + e")
+        self.check_right(comparison_entry(formula, "abcde", (1, 1, 1, -1, -1), 0, -3, 2))
+
+    def test_a_fold_that_begins_elsewhere(self):
+        formula = T_ONE[FORMULA]
+        entry = ("least", (0,), ("a",), formula, ((0, 1), (1, 0)), (0,), ((1, 0), ((),)))
+        self.check_wrong(T_ONE, entry)
+        self.check_right(T_ONE, changed(changed(entry, ACCEPTING, (1,)), SHOWN, ((0, 1), ((),))))
 
 
 class Logs(Rule):

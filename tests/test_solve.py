@@ -256,6 +256,13 @@ class Counts(unittest.TestCase):
             self.assertEqual(count_all(automaton), few if few == many else None)
         self.assertGreater(min(told.values()), 10)
 
+    def test_states_that_lead_nowhere(self):
+        # All letters lead round in state 1; state 2 leads to it, and to state 3, which leads nowhere.
+        automaton = Automaton(3, 1, [(0, 1, 2), (1, 1, 1), (3, 1, 1), (3, 3, 3)], [1])
+        self.assertIs(is_finite(automaton), False)
+        self.assertIsNone(count_all(automaton))
+        self.assertEqual(row_at(automaton, 10), plain_rows(automaton, 4)[10])
+
     def test_zeros_in_front_do_not_count(self):
         # Only zeros lead round.
         self.assertEqual(count_all(constant(2, 12)), 1)
