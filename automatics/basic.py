@@ -19,26 +19,25 @@ def linear(base, factors, constant, sign):
     """Returns the automaton of the rows whose sum of factor times number, plus the constant, is 0 or less than 0."""
     check_base(base)
     _check_linear(factors, constant, sign)
-    rows, read, _ = weighing(base, factors, constant)
-    if sign == "=":
-        accepting = [at for at, value in enumerate(read) if value + constant == 0]
-    else:
-        accepting = [at for at, value in enumerate(read) if value + constant < 0]
-    return least(Automaton(base, len(factors), rows, accepting))
+    return least(weighing(base, factors, constant, sign)[0])
 
 
-def weighing(base, factors, constant):
-    """Returns (rows, values, bounds): for each state the sum of factor times the number read so far.
+def weighing(base, factors, constant, sign):
+    """Returns (automaton, values, bounds): its states tell the sum of factor times the number read so far.
 
-    Beyond the bounds a value can never come back: there it is kept as one of
-    the pair (below, above), which lie just beyond.
+    The values are these sums. Beyond the bounds a sum can never come back:
+    there it is kept as one of the pair (below, above), which lie just beyond.
     """
     sums = [_weighed(factors, letter) for letter in letters(base, len(factors))]
     above = max(-sum([factor for factor in factors if factor < 0]), -constant) + 1
     below = min(-sum([factor for factor in factors if factor > 0]), -constant) - 1
     rows, values = explored(
         0, lambda value: [max(below, min(above, base * value + weight)) for weight in sums], MOST_STATES)
-    return rows, values, (below, above)
+    if sign == "=":
+        accepting = [at for at, value in enumerate(values) if value + constant == 0]
+    else:
+        accepting = [at for at, value in enumerate(values) if value + constant < 0]
+    return Automaton(base, len(factors), rows, accepting), values, (below, above)
 
 
 def equal(base):

@@ -1,14 +1,13 @@
 """From formulas to automata."""
 
 from automatics.automaton import MOST_TRACKS
-from automatics.basic import linear
 from automatics.combine import everything, opposite
 from automatics.errors import BadValues, OtherBase, TooWide
 from automatics.formula import LETTERS, balance, free, names, parts, term
 from automatics.formulatext import formula_text
 from automatics.least import least
 from automatics.project import left_out, looked
-from automatics.steps import joined, members_agree
+from automatics.steps import compared, joined, members_agree
 
 
 class Compiler:
@@ -37,7 +36,7 @@ class Compiler:
             return everything(self.base, 0)
         if kind in ("=", "<"):
             _, factors, constant = balance(formula)
-            return linear(self.base, factors, constant, kind)
+            return least(compared(self.base, kind, factors, constant)[0])
         if kind == "is":
             return looked(self.sequences[formula[1]], formula[3])
         if kind == "same":

@@ -1,6 +1,6 @@
 """Whether the members of a sequence come again from some place on, and after how many.
 
-The states behind the numbers n of a least sequence are looked at, for great n.
+The states behind the numbers n of a least sequence are looked at, from 1 on.
 Two of them are in one class if all words of some length lead from both to the
 same state. If the members come again, then the class of the state behind n
 tells exactly which residue n leaves by some q. If it does so, then the states
@@ -20,7 +20,7 @@ def period_word(sequence):
 
     The sequence is a least one. Raises TooMany if the list has more than 1000 states.
     """
-    states = _lasting(sequence.rows)
+    states = [state for state, flag in enumerate(reached_from(sequence.rows, sequence.rows[0][1:])) if flag]
     places = {state: at for at, state in enumerate(states)}
     rows = [[places[target] for target in sequence.rows[state]] for state in states]
     levels = _levels(rows)
@@ -49,13 +49,6 @@ def last_difference(sequence, word):
         at for at, (state, residue) in enumerate(pairs)
         if sequence.outputs[state] != sequence.outputs[word[residue]]]
     return _greatest(rows, ends)
-
-
-def _lasting(rows):
-    """Returns the list of the states to which infinitely many numbers lead."""
-    inside = reached_from(rows, rows[0][1:])
-    passing = {state: True for state in peeled(rows, inside)}
-    return [state for state, flag in enumerate(inside) if flag and state not in passing]
 
 
 def _levels(rows):

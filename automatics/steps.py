@@ -11,13 +11,9 @@ UNDER = "under"
 
 def compared(base, sign, factors, constant):
     """Returns the automaton of a comparison, and for each state its value, or that this is over or under."""
-    rows, values, bounds = weighing(base, factors, constant)
-    if sign == "=":
-        accepting = [at for at, value in enumerate(values) if value + constant == 0]
-    else:
-        accepting = [at for at, value in enumerate(values) if value + constant < 0]
+    automaton, values, bounds = weighing(base, factors, constant, sign)
     words = dict(zip(bounds, (UNDER, OVER)))
-    return Automaton(base, len(factors), rows, accepting), [words.get(value, value) for value in values]
+    return automaton, [words.get(value, value) for value in values]
 
 
 def members_told(sequence, output):

@@ -162,6 +162,11 @@ class Meaning(unittest.TestCase):
         for kind in ("not", "and", "or", "some", "all"):
             self.assertEqual(compiled(nested(kind, 30), 2, {}).accepting, (0,))
 
+    def test_constants_greater_than_promised(self):
+        found = compiled(("=", plain_term("a", 1001), plain_term("b")), 2, {})
+        self.assertTrue(takes(found, (5, 1006)))
+        self.assertFalse(takes(found, (5, 1005)))
+
     def test_arguments_are_not_changed(self):
         sequences = {"T": thue_morse(), "S": rudin_shapiro()}
         before = {name: sequence_parts(sequence) for name, sequence in sequences.items()}
